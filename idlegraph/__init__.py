@@ -1,0 +1,1 @@
+"""Idlegraph: nothing is reckoned ahead of being wanted."""
