@@ -11,7 +11,8 @@ Y = ("name", "y")
 Z = ("name", "z")
 ONE = ("number", 1)
 NIL = ("shape", "Nil", ())
-MARKS = (("at", 0), ("shut", 7), ("ring", 12))
+# The last one holds more than a mark needs, and is one all the same.
+MARKS = (("at", 0), ("shut", 7), ("ring", 12), ("shut", 3, X))
 
 # Of depth 1, 2 and 3, for terms whose parts are unlike in depth.
 DEEP1 = ONE
