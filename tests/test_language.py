@@ -1,6 +1,7 @@
-"""The package's files keep to the small part of Python that the program is written in (L1 to L28).
+"""The package's files keep to the small part of Python that the program is written in.
 
-Only what can be seen file by file is asked here; the rule's number stands ahead of each fault.
+Only some of the rules are asked here: L1 to L8, L10, L12, L14 to L17, L20, L25 and L27, and of these not every word.
+The others (L9, L11, L13, L18, L19, L21 to L24, L26, L28) are left to the reader. A fault begins with its rule's number.
 """
 
 import ast
