@@ -1,7 +1,8 @@
 """The package's files keep to the small part of Python that the program is written in.
 
-Only some of the rules are asked here: L1 to L8, L10, L12, L14 to L17, L20, L25 and L27, and of these not every word.
-The others (L9, L11, L13, L18, L19, L21 to L24, L26, L28) are left to the reader. A fault begins with its rule's number.
+Only some of the rules are asked here: L1 to L8, L10, L12, L14 to L18, L20, L23, L25 and L27, and of these not every
+word. The others (L9, L11, L13, L19, L21, L22, L24, L26, L28) are left to the reader. A fault begins with its rule's
+number.
 """
 
 import ast
@@ -34,6 +35,10 @@ BARRED_WORDS = (
     "NamedTuple TypedDict TYPE_CHECKING abstractmethod").split()
 
 BARRED_NAMES = "register mro elements open input version_info with_traceback add_note format format_map".split()
+
+WALKED = "zip enumerate reversed range items keys values".split()
+
+TAKERS = "list tuple dict sorted sum any all enumerate zip min max".split()
 
 DUNDERS = "__init__ __eq__ __repr__ __str__ __len__".split()
 
@@ -118,6 +123,38 @@ def bound_names(tree):
     return names + [node.arg for node in nodes if isinstance(node, ast.arg)]
 
 
+# What is bound at a file's top and is no plain def or value: an import or a class.
+def drawn_names(tree):
+    names = [node.name for node in tree.body if isinstance(node, ast.ClassDef)]
+    for node in tree.body:
+        if isinstance(node, ast.ImportFrom):
+            names.extend(alias.name for alias in node.names)
+    return names
+
+
+def object_values(tree):
+    return [node.attr for node in ast.walk(tree) if isinstance(node, ast.Attribute) and isinstance(node.ctx, ast.Store)]
+
+
+# Places where what may only be walked at once is walked: loops, comprehensions, and a few of Python's own.
+def walk_faults(tree):
+    walked = []
+    for node in ast.walk(tree):
+        if isinstance(node, (ast.For, ast.comprehension)):
+            walked.append(node.iter)
+        if isinstance(node, ast.Call) and isinstance(node.func, ast.Name) and node.func.id in TAKERS:
+            walked.extend(node.args if node.func.id == "zip" else node.args[:1])
+        if isinstance(node, ast.Call) and isinstance(node.func, ast.Attribute) and node.func.attr == "join":
+            walked.extend(node.args)
+    faults = []
+    for node in ast.walk(tree):
+        if isinstance(node, ast.Call) and node not in walked:
+            name = node.func.id if isinstance(node.func, ast.Name) else getattr(node.func, "attr", "")
+            if name in WALKED:
+                faults.append(f"L23 {name} is not walked at once, line {node.lineno}")
+    return faults
+
+
 def value_faults(node, methods):
     if isinstance(node, ast.Name):
         barred = hasattr(builtins, node.id) and node.id not in OWN_NAMES
@@ -131,6 +168,8 @@ def value_faults(node, methods):
         return constant_faults(node.value)
     if isinstance(node, ast.Compare):
         return compare_faults(node)
+    if isinstance(node, ast.FormattedValue):
+        return text_faults(node)
     if isinstance(node, ast.comprehension) and len(node.ifs) > 1 or isinstance(node, ast.ListComp) and \
             len(node.generators) > 1:
         return ["L7 one for and one if at most"]
@@ -141,6 +180,11 @@ def constant_faults(value):
     if isinstance(value, (float, bytes, complex)) or value is Ellipsis:
         return ["L7 a value of another sort"]
     return ["L27 a percent sign"] if isinstance(value, str) and "%" in value else []
+
+
+def text_faults(node):
+    plain = isinstance(node.value, ast.Name) and node.format_spec is None and node.conversion in (-1, ord("r"))
+    return [] if plain else ["L7 an f-string with more than a name"]
 
 
 def compare_faults(node):
@@ -187,6 +231,10 @@ def faults_of(source, methods):
     for name in bound_names(tree):
         if hasattr(builtins, name):
             faults.append(f"L15 {name} is a name of Python's own")
+        if name in drawn_names(tree):
+            faults.append(f"L15 {name} is called like a class or an import")
+    faults.extend(f"L18 {name} is a method and a value" for name in object_values(tree) if name in methods)
+    faults.extend(walk_faults(tree))
     docstrings = [node.value for node in tree.body[:1] if isinstance(node, ast.Expr)]
     for node in ast.walk(tree):
         if not (isinstance(node, ast.Expr) and node.value in docstrings):
@@ -235,10 +283,15 @@ class Language(unittest.TestCase):
             ("L10", "X = '" + "a" * 120 + "'\n"), ("L10", "def f():\n" + "    pass\n" * 41),
             ("L12", "def f():\n    _ = 1\n"), ("L14", "X = '\u00e9'\n"), ("L15", "X = 1\nX = 2\n"),
             ("L15", "def f(id):\n    return 1\n"), ("L17", "# its type\n"), ("L20", "def f(x):\n    return x is 'a'\n"),
+            ("L7", "def f(x):\n    return f'{x[0]}'\n"), ("L7", "def f(x):\n    return f'{x:3}'\n"),
+            ("L15", "from idlegraph.terms import free\n\n\ndef f(free):\n    return free\n"),
+            ("L15", "class A:\n    pass\n\n\ndef f():\n    A = 1\n"), ("L18", "def f(x):\n    x.going = 1\n"),
+            ("L23", "def f(x):\n    y = reversed(x)\n"), ("L23", "def f(x, y):\n    x.extend(zip(y, y))\n"),
+            ("L23", "def f(x):\n    return x.items()\n"),
             ("L25", "def f(x):\n    return x.casefold()\n"), ("L27", "X = '%'\n"))
         for rule, source in faulty:
             with self.subTest(source):
-                self.assertIn(rule, " ".join(faults_of(source, [])))
+                self.assertIn(rule, " ".join(faults_of(source, ["going"])))
 
 
 if __name__ == "__main__":
