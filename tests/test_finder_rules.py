@@ -7,10 +7,10 @@ from idlegraph.errors import NoKind
 from idlegraph.finder import paper
 from idlegraph.terms import free, parts
 from idlegraph.texts import read
+from some_terms import some_term
 
 NUM = ("num",)
 TRUTH = ("truth",)
-NAMES = ("a", "b", "c", "d", "e", "f")
 
 
 def many(term):
@@ -186,48 +186,6 @@ def slow_paper(term):
     slow.visit(term, {})
     numbers = {}
     return [numbered(slow.full(kind), numbers) for kind in slow.rows]
-
-
-def some_term(chance, levels, bound):
-    if levels == 0:
-        sorts = ("name", "name", "name", "number", "stop", "none") if bound else ("number", "none", "stop")
-    else:
-        sorts = ("name", "does", "fun", "fun", "call", "call", "let", "let", "shape", "choose", "choose", "first")
-    sort = chance.choice(sorts)
-    if sort == "name":
-        return ("name", chance.choice(bound)) if bound else ("number", 0)
-    if sort == "number":
-        return ("number", chance.randrange(10))
-    if sort == "none":
-        return ("shape", chance.choice(("Nil", "No", "Yes")), ())
-    if sort == "stop":
-        return ("stop", "w")
-    if sort == "fun":
-        name = chance.choice(NAMES)
-        return ("fun", name, some_term(chance, levels - 1, bound + [name]))
-    if sort == "let":
-        names = chance.sample(NAMES, chance.randrange(1, 4))
-        inner = bound + names
-        pairs = tuple((name, some_term(chance, chance.randrange(levels), inner)) for name in names)
-        return ("let", pairs, some_term(chance, levels - 1, inner))
-    one = some_term(chance, levels - 1, bound)
-    if sort == "choose":
-        return ("choose", one, some_alternatives(chance, levels, bound))
-    other = some_term(chance, chance.randrange(levels), bound)
-    if sort == "does":
-        return ("does", chance.choice(("+", "-", "*", "<", "=")), one, other)
-    if sort == "shape":
-        return ("shape", chance.choice(("Cons", "Pair")), (one, other))
-    return (sort, one, other)
-
-
-def some_alternatives(chance, levels, bound):
-    family = chance.choice((("Nil", "Cons"), ("No", "Yes"), ("Pair",)))
-    alternatives = []
-    for shape in family:
-        names = chance.sample(NAMES, 2) if shape in ("Cons", "Pair") else []
-        alternatives.append((shape, tuple(names), some_term(chance, chance.randrange(levels), bound + names)))
-    return tuple(alternatives)
 
 
 class Papers(unittest.TestCase):

@@ -1,8 +1,8 @@
 """The package's files keep to the small part of Python that the program is written in.
 
-Only some of the rules are asked here: L1 to L8, L10, L12, L14 to L18, L20, L23, L25 and L27, and of these not every
-word. The others (L9, L11, L13, L19, L21, L22, L24, L26, L28) are left to the reader. A fault begins with its rule's
-number.
+Only some of the rules are asked here: L1 to L8, L10, L12 and L14 to L28, and of these not every word; of L21 and L28
+more is asked than they ask (no annotation, no method with two underscores but __init__). The others (L9, L11, L13) are
+left to the reader. A fault begins with its rule's number.
 """
 
 import ast
@@ -39,6 +39,18 @@ BARRED_NAMES = "register mro elements open input version_info with_traceback add
 WALKED = "zip enumerate reversed range items keys values".split()
 
 TAKERS = "list tuple dict sorted sum any all enumerate zip min max".split()
+
+KEYWORDS = {"sorted": ("key", "reverse"), "min": ("key", "default"), "max": ("key", "default"), "sum": ("start",),
+            "enumerate": ("start",), "zip": ("strict",)}
+
+KEYS = "len int str abs sum min max tuple".split()
+
+# What Python's own values have as methods or values, and an object of the package may have all the same.
+OWN_METHODS = METHODS + ["add", "discard"]
+
+OWN_VALUES = "count index title find get join lower upper split strip copy add".split()
+
+PYTHONS = {name for value in ("", 0, [], {}, set(), b"") for name in dir(value)} | {"args"}
 
 DUNDERS = "__init__ __eq__ __repr__ __str__ __len__".split()
 
@@ -136,6 +148,74 @@ def object_values(tree):
     return [node.attr for node in ast.walk(tree) if isinstance(node, ast.Attribute) and isinstance(node.ctx, ast.Store)]
 
 
+def class_name_faults(tree):
+    faults = [f"L26 the value {name}" for name in object_values(tree) if name in PYTHONS and name not in OWN_VALUES]
+    for name in methods_in(tree):
+        if name != "__init__" and (name in PYTHONS and name not in OWN_METHODS or name.startswith("__")):
+            faults.append(f"L26/L28 the method {name}")
+    return faults
+
+
+def init_faults(node):
+    if node.name != "__init__":
+        return []
+    return ["L28 __init__ gives back nothing" for inner in ast.walk(node) if isinstance(inner, ast.Return)]
+
+
+def annotation_faults(node):
+    noted = isinstance(node, ast.AnnAssign) or getattr(node, "annotation", None) or getattr(node, "returns", None)
+    return ["L21 an annotation"] if noted else []
+
+
+def error_faults(node):
+    if isinstance(node, ast.Raise):
+        return [] if isinstance(node.exc, ast.Call) else ["L19 raise makes its error on the spot"]
+    if not isinstance(node, ast.ExceptHandler):
+        return []
+    taken = node.type.elts if isinstance(node.type, ast.Tuple) else [node.type]
+    named = all(isinstance(one, ast.Name) and one.id not in ("Exception", "TypeError") for one in taken)
+    return [] if named else ["L19 errors are taken by name"]
+
+
+# A set stands straight within sorted or len, or beside a comparison, and nowhere else.
+def set_faults(tree):
+    fine = []
+    for node in ast.walk(tree):
+        if isinstance(node, ast.Call) and getattr(node.func, "id", "") in ("sorted", "len") and not node.keywords:
+            fine.extend(node.args)
+        if isinstance(node, ast.Compare):
+            fine.extend([node.left] + node.comparators)
+    written = [node for node in ast.walk(tree) if node not in fine and (
+        isinstance(node, ast.Set) or isinstance(node, ast.Call) and getattr(node.func, "id", "") in ("set", "frozenset"))]
+    return [f"L24 a set, line {node.lineno}" for node in written]
+
+
+def keyword_faults(node):
+    if not isinstance(node, ast.Call) or isinstance(node.func, ast.Attribute) and node.func.attr not in METHODS:
+        return []
+    name = getattr(node.func, "id", "a method of Python's own")
+    barred = isinstance(node.func, ast.Attribute) or hasattr(builtins, name)
+    return [f"L22 {given.arg} at {name}" for given in node.keywords if barred and given.arg not in KEYWORDS.get(name, ())]
+
+
+# Python's own are called, and not kept or handed on.
+def kept_faults(tree):
+    fine = []
+    for node in ast.walk(tree):
+        if isinstance(node, ast.Call):
+            fine.append(node.func)
+            fine.extend(given.value for given in node.keywords
+                        if given.arg == "key" and getattr(given.value, "id", "") in KEYS)
+            if getattr(node.func, "id", "") == "isinstance":
+                fine.extend(ast.walk(node.args[1]))
+        if isinstance(node, ast.ClassDef):
+            fine.extend(node.bases)
+        if isinstance(node, ast.ExceptHandler) and node.type:
+            fine.extend(ast.walk(node.type))
+    names = [node for node in ast.walk(tree) if isinstance(node, ast.Name) and node not in fine]
+    return [f"L22 {node.id} is not called, line {node.lineno}" for node in names if node.id in OWN_NAMES]
+
+
 # Places where what may only be walked at once is walked: loops, comprehensions, and a few of Python's own.
 def walk_faults(tree):
     walked = []
@@ -210,9 +290,10 @@ def statement_faults(node):
 
 
 def node_faults(node, methods):
-    faults = statement_faults(node) + value_faults(node, methods)
+    faults = statement_faults(node) + value_faults(node, methods) + annotation_faults(node) + error_faults(node)
+    faults = faults + keyword_faults(node)
     if isinstance(node, ast.FunctionDef):
-        faults = faults + def_faults(node) + name_faults(node.name)
+        faults = faults + def_faults(node) + init_faults(node) + name_faults(node.name)
     if isinstance(node, ast.ClassDef):
         faults = faults + class_faults(node) + name_faults(node.name)
     if isinstance(node, ast.ImportFrom):
@@ -220,9 +301,13 @@ def node_faults(node, methods):
     return [f"{fault}, line {node.lineno}" if hasattr(node, "lineno") else fault for fault in faults]
 
 
-def methods_of(sources):
-    classes = [node for source in sources for node in ast.parse(source).body if isinstance(node, ast.ClassDef)]
+def methods_in(tree):
+    classes = [node for node in tree.body if isinstance(node, ast.ClassDef)]
     return [inner.name for node in classes for inner in node.body if isinstance(inner, ast.FunctionDef)]
+
+
+def methods_of(sources):
+    return [name for source in sources for name in methods_in(ast.parse(source))]
 
 
 def faults_of(source, methods):
@@ -234,7 +319,7 @@ def faults_of(source, methods):
         if name in drawn_names(tree):
             faults.append(f"L15 {name} is called like a class or an import")
     faults.extend(f"L18 {name} is a method and a value" for name in object_values(tree) if name in methods)
-    faults.extend(walk_faults(tree))
+    faults.extend(walk_faults(tree) + kept_faults(tree) + set_faults(tree) + class_name_faults(tree))
     docstrings = [node.value for node in tree.body[:1] if isinstance(node, ast.Expr)]
     for node in ast.walk(tree):
         if not (isinstance(node, ast.Expr) and node.value in docstrings):
@@ -288,7 +373,16 @@ class Language(unittest.TestCase):
             ("L15", "class A:\n    pass\n\n\ndef f():\n    A = 1\n"), ("L18", "def f(x):\n    x.going = 1\n"),
             ("L23", "def f(x):\n    y = reversed(x)\n"), ("L23", "def f(x, y):\n    x.extend(zip(y, y))\n"),
             ("L23", "def f(x):\n    return x.items()\n"),
-            ("L25", "def f(x):\n    return x.casefold()\n"), ("L27", "X = '%'\n"))
+            ("L25", "def f(x):\n    return x.casefold()\n"), ("L27", "X = '%'\n"),
+            ("L19", "def f():\n    raise ValueError\n"), ("L19", "def f():\n    try:\n        g()\n    except:\n        pass\n"),
+            ("L19", "def f():\n    try:\n        g()\n    except (KeyError, TypeError):\n        pass\n"),
+            ("L21", "def f(x: int):\n    return x\n"), ("L21", "def f() -> int:\n    return 1\n"), ("L21", "X: int = 1\n"),
+            ("L22", "def f(xs):\n    return len\n"), ("L22", "def f(x):\n    return int(x, base=2)\n"),
+            ("L22", "def f(x):\n    return x.split(sep='a')\n"), ("L22", "def f(xs):\n    return sorted(xs, key=repr)\n"),
+            ("L24", "def f(xs):\n    return set(xs)\n"), ("L24", "def f(x):\n    y = {1, 2}\n"),
+            ("L26", "class A:\n    def encode(self):\n        return 1\n"), ("L26", "def f(x):\n    x.items = 1\n"),
+            ("L28", "class A:\n    def __len__(self):\n        return 1\n"),
+            ("L28", "class A:\n    def __init__(self):\n        return None\n"))
         for rule, source in faulty:
             with self.subTest(source):
                 self.assertIn(rule, " ".join(faults_of(source, ["going"])))

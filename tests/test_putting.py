@@ -190,6 +190,15 @@ class Others(Putting):
         self.assertEqual(put(("call", X, Y), {"x": AT}), ("call", AT, Y))
 
 
+class Sharing(Putting):
+
+    def test_what_stays_is_not_made_anew(self):
+        kept = listing(Z, ("fun", "x", X), ("x", "y"), let(("x", Y), X))
+        self.assertIs(put(kept, TWO_MARKS), kept)
+        self.assertIs(put(("call", X, kept), TWO_MARKS)[2], kept)
+        self.assertIs(put(rows(X, ("in", "z", kept), ("be", "a", Y)), TWO_MARKS)[2][0][2], kept)
+
+
 class Bounds(Putting):
 
     def test_four_hundred_parts(self):
