@@ -1,6 +1,7 @@
 """Marks put in place of names (point 11)."""
 
-from idlegraph.terms import scopes, with_parts
+from idlegraph.remake import with_parts
+from idlegraph.terms import scopes
 
 
 def put(term, marks):

@@ -54,7 +54,7 @@ class Runner:
             elif self.pile == []:
                 self.tell_value()
             elif self.pile[-1][0] == "back":
-                self.come_back(self.pile.pop()[1])
+                self.come_back(self.take_frame()[1])
             elif fits(self.hand, self.pile[-1]):
                 return
             else:
@@ -79,7 +79,7 @@ class Runner:
 
     def take_step(self):
         if is_value(self.hand):
-            self.use_value(self.hand, self.pile.pop())
+            self.use_value(self.hand, self.take_frame())
         else:
             self.take_apart(self.hand)
 
@@ -117,6 +117,9 @@ class Runner:
     def go_into(self, term, frame):
         self.pile.append(frame)
         self.hand = term
+
+    def take_frame(self):
+        return self.pile.pop()
 
     # The marks of all the names must be there before the first of the texts can be kept.
     def bind(self, pairs, body):

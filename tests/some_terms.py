@@ -1,7 +1,10 @@
 """Closed terms by chance, for the tests that ask over many of them.
 
-some_term minds no kinds, and so gives many terms without one; term_of gives a term of the kind that is asked for.
+some_term minds no kinds, and so gives many terms without one; term_of gives a term of the kind that is asked for;
+busy_term one that has a kind, and that comes to the same things over and over.
 """
+
+from idlegraph.texts import read
 
 NAMES = ("a", "b", "c", "d", "e", "f")
 
@@ -125,3 +128,34 @@ def choose_of(chance, kind, levels, bound):
         return ("choose", term_of(chance, whole, levels, bound), (("Pair", names, body),))
     empty = term_of(chance, kind, levels, bound)
     return ("choose", term_of(chance, whole, levels, bound), (("Nil", (), empty), ("Cons", names, body)))
+
+
+NUMS = ("list", NUM)
+STEP = ("to", NUM, NUM)
+
+# Funs that go round, lists without an end, and things that want themselves, for terms that come to them over and over.
+SHARED = (
+    ("upto", ("to", NUM, ("to", NUM, NUMS)), "(fun a b (choose (< a b) (No Nil) (Yes (Cons a (upto (+ a 1) b)))))"),
+    ("sum", ("to", NUMS, NUM), "(fun l (choose l (Nil 0) (Cons a b (+ a (sum b)))))"),
+    ("map", ("to", STEP, ("to", NUMS, NUMS)), "(fun f l (choose l (Nil Nil) (Cons a b (Cons (f a) (map f b)))))"),
+    ("join", ("to", NUMS, ("to", NUMS, NUMS)), "(fun l m (choose l (Nil m) (Cons a b (Cons a (join b m)))))"),
+    ("twice", ("to", STEP, STEP), "(fun f a (f (f a)))"),
+    ("head", ("to", NUMS, NUM), "(fun l (choose l (Nil (stop none)) (Cons a b a)))"),
+    ("tail", ("to", NUMS, NUMS), "(fun l (choose l (Nil (stop none)) (Cons a b b)))"),
+    ("ones", NUMS, "(Cons 1 ones)"),
+    ("nats", NUMS, "(Cons 0 (map (fun a (+ a 1)) nats))"),
+    ("few", NUMS, "(upto 2 6)"),
+    ("seven", NUM, "(+ 3 (sum (upto 1 3)))"),
+    ("both", ("pair", NUM, NUMS), "(Pair (sum few) (map (fun a (* a seven)) (join few few)))"),
+    ("round", NUM, "(+ 1 (head (tail knot)))"),
+    ("knot", NUMS, "(Cons seven (Cons round knot))"))
+
+
+# Each let here sees those of the lets about it, and its own.
+def busy_term(chance):
+    bound = {name: kind for name, kind, text in SHARED}
+    kind = chance.choice((NUM, NUM, NUMS, NUMS, ("pair", NUM, NUMS), TRUTH, ("list", NUMS)))
+    term = term_of(chance, kind, chance.randrange(2, 6), bound)
+    for begin in (10, 5, 0):
+        term = ("let", tuple((name, read(text)) for name, kind, text in SHARED[begin:begin + 5]), term)
+    return term

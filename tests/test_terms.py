@@ -2,7 +2,7 @@
 
 import unittest
 
-from idlegraph.terms import depth, free, is_name, parts, with_parts
+from idlegraph.terms import depth, free, is_name, parts
 
 WORDS = ("fun", "let", "choose", "first", "stop", "rows", "in", "when", "be")
 
@@ -173,22 +173,6 @@ class Parts(unittest.TestCase):
                 given.append(("stop", "gone"))
                 given.reverse()
                 self.assertEqual(parts(term), before)
-
-
-class Together(unittest.TestCase):
-
-    def test_other_parts_in_the_places_of_a_terms_own(self):
-        steps = (("in", "x", NIL), ("when", Y), ("be", "z", ONE))
-        terms = (X, ONE, ("stop", "x"), NIL, ("does", "-", X, ONE), ("fun", "x", Y), ("call", X, Y), ("first", X, Y),
-                 let(("x", ONE), Y), let(("b", X), ("a", Y), Z), ("shape", "Cons", (X, NIL)), listing(Z, ONE, X),
-                 ("choose", Z, (("No", (), X), ("Yes", (), Y))), ("choose", Z, (("Pair", ("a", "b"), X),)),
-                 rows(X), rows(X, *steps)) + MARKS
-        for term in terms:
-            with self.subTest(term):
-                others = [("at", place) for place in range(len(parts(term)))]
-                changed = with_parts(term, others)
-                self.assertEqual(parts(changed), others)
-                self.assertEqual(with_parts(changed, parts(term)), term)
 
 
 class Depths(unittest.TestCase):
