@@ -1,6 +1,6 @@
 """The runner: the steps of a run, what goes without a step, and the outcome (points 12, 13 and 15 to 17).
 
-It goes by names, and three methods alone say so: keep, enter and come_back.
+It goes by names, and three methods alone say so: keep, enter and come_back. The machine has others in their place.
 The frames on the pile are ("give", A), ("left", op, B), ("right", op, number), ("pick", alternatives), ("first", B)
 and ("back", number).
 """

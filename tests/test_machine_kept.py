@@ -137,6 +137,9 @@ class Roots(unittest.TestCase):
         self.check("(let (y 1) (Cons 2 y))", 1, (1, [0]), (2, []))
         self.check("(let (y 1) (z 2) (Cons (Cons 3 y) z))", 2, (2, [1, 2]), (3, [0, 1, 2]), (4, [1]), (5, []))
         self.check("(let (y 1) y)", 0, (0, []))
+        # No term is handed in with marks in it; here they show what is a root before the first going.
+        marked = ("call", ("at", 3), ("at", 1))
+        self.assertEqual([Machine(marked, depth).roots() for depth in (0, 1, 2)], [[], [1, 3], [1, 3]])
 
     def test_each_once_and_rising(self):
         self.check("(let (a 1) (b 2) (c 3) (d 4) (e 5) (+ e (+ c (+ a (+ c (+ d (+ b e)))))))", 8, (1, [0, 1, 2, 3, 4]),

@@ -242,6 +242,22 @@ class Runs(unittest.TestCase):
         self.assertEqual(outcome, machine.run(read(growing), 8, 100000))
         self.assertEqual(tidy_ups, [(steps, ()) for steps in range(1000, 100000, 1000)])
 
+    def test_terms_at_the_bounds(self):
+        layer = ["x"] * 199
+        while len(layer) > 1:
+            pairs = [f"(+ {layer[k]} {layer[k + 1]})" for k in range(0, len(layer) - 1, 2)]
+            layer = pairs + layer[len(layer) // 2 * 2:]
+        # It is told at 794 steps, and its only thing wanted until a few steps before.
+        self.check(f"(let (x 1) {layer[0]})", 16, 1000, [(steps, ()) for steps in range(16, 794, 16)])
+        self.check(f"(let (x 1) {layer[0]})", 793, 1000, [(793, (0,))])
+        deep = ("name", "x")
+        for level in range(200):
+            deep = ("first", ("name", "x"), deep)
+        deep = ("let", (("y", ("number", 4)),), ("call", ("fun", "x", deep), ("number", 5)))
+        outcome, tidy_ups = tidy.run(deep, 100, 8, 1000)
+        self.assertEqual(outcome[:3], ("told", "5", (604, 0, 200)))
+        self.assertEqual(tidy_ups, [(100, (0,)), (200, ()), (300, ()), (400, ()), (500, ()), (600, ())])
+
     def test_below_one_nothing_is_tidied_up(self):
         for every in (0, -1, -16):
             self.check(CALLS, every, 400, [])
